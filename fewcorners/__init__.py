@@ -1,0 +1,1 @@
+"""Fewcorners: bodies of few corners, told by wheels."""
