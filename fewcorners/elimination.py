@@ -1,8 +1,8 @@
 """Rows of numbers brought into steps, exactly.
 
-Inside, each row is whole: it is kept as integers without a common part, a
-number above 0 times the row that is meant. So no fraction is ever reckoned
-here, and the integers stay as short as the row lets them be.
+Each row is kept whole: as integers without a common part, a number other than
+0 times the row that is meant. So no fraction is ever reckoned here, and the
+integers stay as short as the row lets them be.
 """
 from math import gcd, lcm
 
@@ -45,18 +45,17 @@ def cleared(row, head, column):
 
 
 def in_steps(rows):
-    """The list in steps of which the rows are made, each list whole, with a head above 0."""
+    """The list in steps of which the rows are made, each list whole."""
     done = []
     left = [whole(row) for row in rows]
     wide = len(left[0]) if left else 0
     for column in range(wide):
         found = [row for row in left if row[column] != 0]
         if found:
-            sign = 1 if found[0][column] > 0 else -1
-            head = [sign * integer for integer in found[0]]
+            head = found[0]
             others = found[1:] + [row for row in left if row[column] == 0]
             left = [cleared(row, head, column) for row in others]
-            # The heads above stay above 0: the new head row has 0 at their places, and is above 0 here.
+            # The heads ahead are not cleared away: the new head row has 0 at their places.
             done = [cleared(row, head, column) for row in done] + [head]
     return done
 
@@ -67,8 +66,8 @@ def unit(at, many):
 
 
 def relations(rows):
-    """The lists of numbers by which the rows come to nought, in steps, each whole, with a head above 0."""
+    """The lists of numbers by which the rows come to nought, in steps, each whole."""
     wide = len(rows[0])
     # Each row carries a mark of its own along, so the marks tell of which rows a row of noughts is made.
-    marked = [[*row, *unit(at, len(rows))] for at, row in enumerate(rows)]
+    marked = [list(row) + unit(at, len(rows)) for at, row in enumerate(rows)]
     return [row[wide:] for row in in_steps(marked) if head_place(row) >= wide]

@@ -21,12 +21,15 @@ def with_ones(points):
 
 
 def whole_sums(points):
-    """The told sums of points, each times a number above 0 that makes it whole."""
+    """The told sums of points, each times a number other than 0 that makes it whole."""
     return relations(with_ones(points))
 
 
 def whole_spokes(points):
-    """The spokes in these whole sums: the told ones, in letters of a table with numbers above 0 on its diagonal."""
+    """The spokes in these whole sums: the told ones in letters of a table that is 0 but on its diagonal.
+
+    So lots of them balance by the same numbers as those of the told ones.
+    """
     return columns_of(whole_sums(points), len(points))
 
 

@@ -202,7 +202,10 @@ class JudgesTest(unittest.TestCase, Wrong):
     def test_each_condition_of_a_mixture_counts(self):
         points = [[0], [2], [1], [-1]]
         self.assertIs(is_mixture(points, 2, [Ratio(1, 2), Ratio(1, 2), 0, 0]), True)
-        self.assertIs(is_mixture(points, 2, [-1, Ratio(4, 3), 0, Ratio(2, 3)]), False)
+        self.assertIs(is_mixture(points, 2, [-1, 1, 0, 1]), False)
+        self.assertIs(is_mixture(points, 2, [Ratio(1, 2), Ratio(1, 2), 5, 0]), False)
+        self.assertIs(is_mixture(points, 2, [Ratio(1, 2), Ratio(1, 2), -1, 0]), False)
+        self.assertIs(is_mixture(points, 2, [Ratio(2, 3), Ratio(2, 3), 0, Ratio(1, 3)]), False)
         self.assertIs(is_mixture(points, 2, [0, 1, 0, 1]), False)
         self.assertIs(is_mixture(points, 2, [0, Ratio(1, 2), 0, 0]), False)
         self.assertIs(is_mixture(points, 2, [0, Ratio(1, 3), Ratio(1, 3), 0]), False)
