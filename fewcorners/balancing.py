@@ -85,3 +85,14 @@ def covering_balances(spokes):
             for at in lot:
                 held[at] = True
     return kept if len(held) == len(spokes) else None
+
+
+def balance_by(spokes):
+    """Integers above 0 by which all the spokes come to nought together; None unless they balance."""
+    parts = covering_balances(spokes)
+    if parts is None:
+        return None
+    added = [0] * len(spokes)
+    for lot, numbers in parts:
+        added = [one + other for one, other in zip(added, spread(len(spokes), lot, numbers))]
+    return without_common_part(added)

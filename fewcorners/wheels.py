@@ -43,6 +43,15 @@ def peaks(wheel):
     return [at for at, spoke in enumerate(wheel) if is_nought(spoke)]
 
 
+def whole_by_places(wheel):
+    """The spokes of a wheel or of a simplex, at each place times a number above 0 that makes all numbers there whole.
+
+    So lots of them balance by the same numbers as before.
+    """
+    columns = [whole(column) for column in columns_of(wheel, len(wheel[0]))]
+    return columns_of(columns, len(wheel))
+
+
 def is_letters(table, wide):
     """Whether the table has as many rows as columns, so many, and can be undone."""
     if not is_table(table, wide, wide, wide) or len(table[0]) != wide:

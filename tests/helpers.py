@@ -1,5 +1,6 @@
 """What several tests need: values of all kinds, wrong calls, and reckoning of their own with fractions."""
 import copy
+import itertools
 import random
 from fractions import Fraction
 
@@ -160,18 +161,66 @@ class Wrong:
                 self.assertIs(answer, valid, (function, value))
 
     def check_new(self, function, *values):
-        """Twice the same answer, but new lists down to the inner ones; what is passed stays as it was."""
+        """The same answer each time, but new lists down to the inner ones; what is passed stays as it was."""
         before = copy.deepcopy(values)
         first, second = function(*values), function(*values)
         self.assertEqual(first, second)
         self.assertEqual(values, before)
         self.check_apart(first, list(walk(second)) + list(walk(values)))
-        return first
+        for one in list(walk(first)):
+            one.clear()
+        self.assertEqual(function(*values), second)
+        return second
 
     def check_apart(self, answer, others):
         marks = {id(other) for other in others}
         for one in walk(answer):
             self.assertNotIn(id(one), marks)
+
+
+def longest(value):
+    """How many digits the longest integer has in a value, above and below the stroke, too."""
+    if isinstance(value, Ratio):
+        return max(longest(value.top), longest(value.bottom))
+    if isinstance(value, int):
+        return len(str(abs(value)))
+    return max([longest(part) for part in value], default=0)
+
+
+def told_otherwise(value):
+    """The same value in the other kinds that may be passed for it: tuples in the place of lists, Ratios and integers."""
+    if isinstance(value, (list, tuple)):
+        return tuple(told_otherwise(part) for part in value)
+    if isinstance(value, Ratio):
+        return value.top if value.is_whole else Ratio(value.top, value.bottom)
+    return Ratio(value)
+
+
+def all_lots(many):
+    """All lots of places below many, by their sizes."""
+    return [list(lot) for size in range(many + 1) for lot in itertools.combinations(range(many), size)]
+
+
+def some_lots(seed, many, most):
+    """All lots of places below many, or if these are more than most, so many of them: nothing, all and others by chance."""
+    lots = all_lots(many)
+    if len(lots) <= most:
+        return lots
+    return [[], list(range(many))] + random.Random(seed).sample(lots[1:-1], most - 2)
+
+
+def bad_lots(many):
+    """Values that are no lots of places below many."""
+    none = [[many], [0, many], [-1], [-1, 0], [1, 0], [0, 0], [0, 1, 1], [True], [0, True], [False], [Ratio(0)], [0, Ratio(1)],
+            ["0"], [[0]], [0, None], (1, 0), (0, 0), {0}, {0: 1}, "01", "0", range(2), b"", b"0", 0, 1, [10 ** 40], [-many],
+            (False, 1), [[0, 1]], iter([]), {0: 0, 1: 1}.keys()]
+    return none + [value for value in kinds() if not isinstance(value, (list, tuple)) or value not in ([], ())]
+
+
+def bad_places(many):
+    """Values that are no places below many."""
+    none = [many, 10 ** 40, -1, -many, True, False, Ratio(0), Ratio(1), "0", [0], (0,), None, {0}, b"0"]
+    return none + [value for value in kinds() if type(value) is not int]
 
 
 def walk(value):
