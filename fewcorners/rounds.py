@@ -9,7 +9,7 @@ from fewcorners.elimination import whole
 
 def direction_of(spoke):
     """The direction of a spoke; (0, 0) of a peak's."""
-    return tuple(whole([*spoke, 0][:2]))
+    return tuple(whole((list(spoke) + [0])[:2]))
 
 
 def opposite_of(direction):

@@ -20,6 +20,22 @@ FUNCTIONS = {
         "is_wheel": "value", "peaks": "wheel", "in_letters": "wheel table", "letters": "wheel other",
         "beyond": "wheel normal", "least_beyond": "wheel",
     },
+    "balances": {
+        "is_balanced": "wheel places", "balance": "wheel places", "tipping": "wheel places",
+        "is_balance": "wheel places value", "is_tipping": "wheel places value", "least_balanced": "wheel",
+    },
+    "faces": {
+        "is_face": "body places", "face_form": "body places", "open_sum": "body places",
+        "is_face_form": "body places value", "is_open_sum": "body places value", "holds_face": "body places",
+    },
+    "lists": {
+        "faces": "body many", "facets": "body", "edges": "body", "face_size": "body places", "face_numbers": "body",
+    },
+    "beams": {"beams": "wheel", "opposites": "wheel"},
+    "words": {"word": "wheel", "word_of": "body", "runs": "wheel", "is_word": "value", "keeping": "word"},
+    "likeness": {"alike": "body other", "is_alike": "body other value", "own_maps": "body"},
+    "twins": {"twins": "body", "are_twins": "body place second"},
+    "makes": {"wheel_by": "word", "body_by": "wheel", "pyramid": "body", "joined": "body other"},
 }
 CLASSES = {
     ("ratios", "Ratio"): {
