@@ -36,6 +36,15 @@ FUNCTIONS = {
     "likeness": {"alike": "body other", "is_alike": "body other value", "own_maps": "body"},
     "twins": {"twins": "body", "are_twins": "body place second"},
     "makes": {"wheel_by": "word", "body_by": "wheel", "pyramid": "body", "joined": "body other"},
+    "figures": {
+        "face_body": "body places", "around": "body place", "figure": "body place", "figure_face": "body place places",
+    },
+    "listing": {"words_of": "many excess", "word_count": "many excess"},
+    "kinds": {
+        "is_simplicial": "word", "simplicial_words": "many excess", "simplicial_count": "many", "numbers_by": "word",
+        "is_neighbourly": "body many", "most_neighbourly": "body",
+    },
+    "texts": {"sorts": "", "is_of_sort": "sort value", "written": "sort value"},
 }
 CLASSES = {
     ("ratios", "Ratio"): {

@@ -16,7 +16,7 @@ LIBRARY = {
 }
 METHODS = set("""append clear copy count endswith extend find get index insert isalnum isalpha isdigit islower isspace
 isupper items join keys ljust lower lstrip partition pop remove replace reverse rfind rjust rpartition rsplit rstrip
-setdefault split splitlines startswith strip update upper values zfill bit_length add discard""".split())
+setdefault split splitlines startswith strip update upper values zfill bit_length removeprefix removesuffix add discard""".split())
 DOUBLE = set("""__init__ __eq__ __repr__ __str__ __len__ __enter__ __exit__ __call__ __iter__ __add__ __sub__ __mul__
 __radd__ __rsub__ __rmul__ __neg__ __contains__ __getitem__""".split())
 BARRED = set("""register mro elements open input law version_info with_traceback add_note attrgetter breakpoint builtins
@@ -60,6 +60,8 @@ def bound_names(tree):
             yield node.name
         elif isinstance(node, ast.alias):
             yield node.asname or node.name
+        elif isinstance(node, ast.ExceptHandler) and node.name is not None:
+            yield node.name
 
 
 def functions_of(tree):
@@ -72,6 +74,10 @@ def plain(node):
     if isinstance(node, ast.Dict):
         return all(plain(part) for part in node.keys + node.values)
     return isinstance(node, (ast.Constant, ast.Name)) or isinstance(node, ast.UnaryOp) and plain(node.operand)
+
+
+def names_in(node):
+    return [part.id for part in ast.walk(node) if isinstance(part, ast.Name)]
 
 
 class FilesTest(unittest.TestCase):
@@ -102,6 +108,8 @@ class FilesTest(unittest.TestCase):
                 if isinstance(node, ast.Assign):
                     self.assertTrue(len(node.targets) == 1 and isinstance(node.targets[0], ast.Name), name)
                     self.assertTrue(plain(node.value), name)
+                    functions = {made.name for made in body[:body.index(node)] if isinstance(made, ast.FunctionDef)}
+                    self.assertLessEqual(set(names_in(node.value)), functions, name)
             names = [found for node in body if not isinstance(node, ast.Assign) for found in
                      ([alias.name for alias in node.names] if isinstance(node, ast.ImportFrom) else [node.name])]
             self.assertEqual(len(names), len(set(names)), name)
@@ -215,7 +223,8 @@ class CodeTest(unittest.TestCase):
         for place, node in nodes(ast.ClassDef):
             self.assertFalse(node.decorator_list or node.keywords or len(node.bases) > 1, place)
         for place, node in nodes(ast.Call):
-            self.assertFalse([part for part in node.args if isinstance(part, ast.Starred)], place)
+            for part in node.args:
+                self.assertTrue(not isinstance(part, ast.Starred) or isinstance(part.value, ast.Name), place)
 
     def test_is_stands_beside_none_true_and_false(self):
         for place, node in nodes(ast.Compare):
