@@ -1,4 +1,4 @@
-"""Which values are integers, counts and lists."""
+"""Which values are integers, counts and lists, and copies of lists."""
 
 
 def is_integer(value):
@@ -14,3 +14,12 @@ def is_count(value):
 def is_list(value):
     """Whether the value may be passed where a list is wanted."""
     return isinstance(value, (list, tuple))
+
+
+def copied(value):
+    """The value with new lists and tuples."""
+    if isinstance(value, list):
+        return [copied(part) for part in value]
+    if isinstance(value, tuple):
+        return tuple([copied(part) for part in value])
+    return value

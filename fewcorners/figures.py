@@ -23,7 +23,7 @@ def around(body, place):
     """The sorted list of the other ends of all edges of the corner."""
     check_body(body)
     check_place(place, body.many)
-    return sorted([first + second - place for first, second in edges(body) if place in (first, second)])
+    return [first + second - place for first, second in edges(body) if place in (first, second)]
 
 
 def shortened(normal, ways):

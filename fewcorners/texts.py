@@ -31,7 +31,7 @@ def is_any_form(value):
 
 def is_of_sort(sort, value):
     """Whether the value is one of the sort."""
-    if not isinstance(sort, str) or sort not in SORTS:
+    if sort not in SORTS:
         raise InvalidSort(sort)
     if sort == "points":
         return is_points(value)

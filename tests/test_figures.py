@@ -98,7 +98,8 @@ class FaceBodyTest(unittest.TestCase, Wrong):
 
     def test_some(self):
         self.assertEqual(face_body(TENT, [0, 1, 2, 3]), Body([point + [0] for point in SQUARE]))
-        self.assertEqual([face_body(TENT, [0, 1, 2, 3]).size, face_body(TENT, [0, 1, 4]).size, face_body(TENT, [0, 4]).size], [2, 2, 1])
+        self.assertEqual([face_body(TENT, [0, 1, 2, 3]).size, face_body(TENT, [0, 1, 4]).size, face_body(TENT, [0, 4]).size],
+                         [2, 2, 1])
         for body in some_bodies():
             self.assertEqual(face_body(body, list(range(body.many))), body)
         self.assertEqual(face_body(simplex(2), [0, 1]), simplex(2))
@@ -140,7 +141,8 @@ class AroundTest(unittest.TestCase, Wrong):
         self.assertEqual(seen, {True, False})
 
     def test_some(self):
-        self.assertEqual([around(Body(SQUARE), 0), around(TENT, 4), around(TENT, 0), around(Body(SIX), 0), around(Body(PRISM), 2)],
+        self.assertEqual([around(Body(SQUARE), 0), around(TENT, 4), around(TENT, 0), around(Body(SIX), 0),
+                          around(Body(PRISM), 2)],
                          [[1, 3], [0, 1, 2, 3], [1, 3, 4], [2, 3, 4, 5], [0, 1, 5]])
         self.assertEqual([around(simplex(2), 0), around(simplex(2), 1), around(simplex(4), 2)], [[1], [0], [0, 1, 3]])
         self.assertEqual(around(Body(curved(7, 4)), 3), [0, 1, 2, 4, 5, 6])
@@ -168,8 +170,14 @@ class FigureTest(unittest.TestCase, Wrong):
                     seen.add((body.excess, told.excess, told.many == body.size))
                     if body.many < 7:
                         self.assertEqual(sorted(faces_of(told)), faces_at(body, place))
-        self.assertEqual({(one, other) for one, other, _ in seen}, {(one, other) for one in range(3) for other in range(one + 1)})
+        self.assertEqual({(one, other) for one, other, _ in seen},
+                         {(one, other) for one in range(3) for other in range(one + 1)})
         self.assertEqual({few for _, _, few in seen}, {True, False})
+
+    def test_of_a_simplex_its_own_points_will_do(self):
+        """So its numbers stay as short as they are, through figures of figures too."""
+        for points in ([[Ratio(1, 2), 0], [0, Ratio(1, 3)], [-1, -1]], [[0, 0, 7], [1, 2, 3], [4, 5, 9]]):
+            self.assertLessEqual(longest(figure(Body(points), 0).points()), longest(points))
 
     def test_of_bodies_of_all_words(self):
         for many in (5, 6, 7):
@@ -180,7 +188,8 @@ class FigureTest(unittest.TestCase, Wrong):
                         self.check_figure(body, place)
 
     def test_some(self):
-        self.assertEqual([figure(TENT, 4).many, figure(TENT, 4).excess, figure(TENT, 0).many, figure(TENT, 0).size], [4, 1, 3, 2])
+        self.assertEqual([figure(TENT, 4).many, figure(TENT, 4).excess, figure(TENT, 0).many, figure(TENT, 0).size],
+                         [4, 1, 3, 2])
         self.assertEqual([figure(Body(SIX), 0).many, figure(Body(SIX), 0).excess], [4, 1])
         self.assertEqual([figure(Body(PENTAGON), 3).many, figure(Body(PENTAGON), 3).size], [2, 1])
         self.assertEqual([figure(pyramid(Body(PENTAGON)), 5).many, figure(pyramid(Body(PENTAGON)), 5).excess], [5, 2])
@@ -226,7 +235,8 @@ class FigureFaceTest(unittest.TestCase, Wrong):
                         self.assertIs(figure_face(body, place, lot), is_face(told, lot))
 
     def test_faces_through_the_corner(self):
-        for points in (SQUARE, PENTAGON, SIX, PRISM, over(SQUARE), BIPYRAMID, curved(6, 4), beside_one_another(SQUARE, [[0], [1]])):
+        for points in (SQUARE, PENTAGON, SIX, PRISM, over(SQUARE), BIPYRAMID, curved(6, 4), beside_one_another(SQUARE,
+                                                                                                               [[0], [1]])):
             body = Body(points)
             for place in range(body.many):
                 wanted = faces_at(body, place)

@@ -45,6 +45,13 @@ FUNCTIONS = {
         "is_neighbourly": "body many", "most_neighbourly": "body",
     },
     "texts": {"sorts": "", "is_of_sort": "sort value", "written": "sort value"},
+    "readers": {"read": "text"},
+    "claims": {
+        "words": "", "is_claim": "value", "is_true": "claim", "contrary": "claim", "paper_of": "claim",
+        "is_paper_of": "claim value",
+    },
+    "commands": {"is_name": "value", "is_command": "value", "is_deed": "value"},
+    "desk": {"tried": "desk action"},
 }
 CLASSES = {
     ("ratios", "Ratio"): {
@@ -58,6 +65,17 @@ CLASSES = {
     ("bodies", "Body"): {
         "parameters": "points", "properties": "many size excess",
         "methods": {"points": "", "wheel": "", "__eq__": None, "__repr__": None},
+    },
+    ("desk", "Desk"): {
+        "parameters": "", "properties": "names labels",
+        "methods": {
+            "__len__": None, "__getitem__": None, "__contains__": None, "claim_of": "label", "do": "command",
+            "__call__": "command", "do_all": "commands", "attach": "label paper", "attempt": "commands",
+            "fits": "label", "lines": "", "copy": "", "again": "lines",
+        },
+    },
+    ("desk", "Trial"): {
+        "parameters": "desk", "properties": "", "methods": {"__enter__": None, "__exit__": None},
     },
 }
 

@@ -65,7 +65,8 @@ class SimplicialTest(unittest.TestCase, Wrong):
     def test_some(self):
         yes = [(2, []), (9, []), (0, [2, 2]), (0, [4, 5]), (0, [0, 1] * 5), (0, [0, 2] * 3), (0, [0, 3] * 3), (0, [0, 1] * 9),
                (0, [0, 1, 0, 1, 0, 1, 0, 1, 0, 2])]
-        no = [(1, [2, 2]), (5, [2, 2]), (1, [0, 1] * 5), (3, [0, 2] * 3), (0, [1] * 6), (0, [2] * 4), (0, [0, 1, 1, 0, 1, 1, 0, 2]),
+        no = [(1, [2, 2]), (5, [2, 2]), (1, [0, 1] * 5), (3, [0, 2] * 3), (0, [1] * 6), (0, [2] * 4),
+              (0, [0, 1, 1, 0, 1, 1, 0, 2]),
               (1, [1] * 6)]
         self.assertEqual([is_simplicial(word) for word in yes + no], [True] * len(yes) + [False] * len(no))
 
@@ -136,7 +137,8 @@ class NumbersByTest(unittest.TestCase, Wrong):
     def test_some(self):
         self.assertEqual([numbers_by((2, [])), numbers_by((4, [])), numbers_by((0, [2, 2])), numbers_by((1, [2, 2]))],
                          [[1, 2, 1], [1, 4, 6, 4, 1], [1, 4, 4, 1], [1, 5, 8, 5, 1]])
-        self.assertEqual([numbers_by((0, [0, 1] * 5)), numbers_by((1, [0, 1] * 5)), numbers_by((0, [1] * 6)), numbers_by((0, [0, 2] * 3))],
+        self.assertEqual([numbers_by((0, [0, 1] * 5)), numbers_by((1, [0, 1] * 5)), numbers_by((0, [1] * 6)),
+                          numbers_by((0, [0, 2] * 3))],
                          [[1, 5, 5, 1], [1, 6, 10, 6, 1], [1, 6, 9, 5, 1], [1, 6, 12, 8, 1]])
         self.assertEqual([numbers_by((0, [0, 1] * 9)), numbers_by((9, []))],
                          [[1, 9, 36, 84, 117, 90, 30, 1], [math.comb(9, at) for at in range(10)]])
@@ -163,7 +165,8 @@ class NeighbourlyTest(unittest.TestCase, Wrong):
     def test_some(self):
         self.assertEqual([is_neighbourly(Body(SQUARE), many) for many in range(5)], [True, True, False, False, True])
         self.assertEqual([is_neighbourly(Body(curved(7, 4)), many) for many in range(8)], [True] * 3 + [False] * 4 + [True])
-        self.assertEqual([most_neighbourly(Body(points)) for points in (SQUARE, PENTAGON, SIX, PRISM, BIPYRAMID, over(SQUARE))], [1] * 6)
+        self.assertEqual([most_neighbourly(Body(points)) for points in (SQUARE, PENTAGON, SIX, PRISM, BIPYRAMID,
+                                                                        over(SQUARE))], [1] * 6)
         self.assertEqual([most_neighbourly(Body(curved(6, 4))), most_neighbourly(Body(curved(9, 6)))], [2, 3])
         self.assertEqual([most_neighbourly(simplex(many)) for many in range(2, 10)], list(range(1, 9)))
         self.assertEqual([is_neighbourly(simplex(3), many) for many in range(4)], [True] * 4)

@@ -258,3 +258,35 @@ class CodeTest(unittest.TestCase):
             self.assertTrue(node.exc is None or isinstance(node.exc, ast.Call) and isinstance(node.exc.func, ast.Name), place)
         for place, node in nodes(ast.ExceptHandler):
             self.assertIsNotNone(node.type, place)
+
+    def test_a_with_makes_its_object_and_ends_by_plain_assignments(self):
+        for place, node in nodes(ast.With):
+            for item in node.items:
+                self.assertTrue(isinstance(item.context_expr, ast.Call) and isinstance(item.optional_vars, ast.Name), place)
+        for place, node in nodes(ast.FunctionDef):
+            if node.name == "__exit__":
+                for row in node.body:
+                    self.assertIsInstance(row, ast.Assign, place)
+                    self.assertRegex(ast.unparse(row), r"^[a-z]+(\._[a-z]+)? = self\._[a-z]+$", place)
+
+    def test_tables_are_only_read(self):
+        """Lists and dicts at module level are indexed, asked by `in` and `get`, or copied."""
+        tables = {node.targets[0].id for _, tree in trees() for node in tree.body
+                  if isinstance(node, ast.Assign) and isinstance(node.value, (ast.Dict, ast.List))}
+        self.assertGreater(len(tables), 5)
+        for name, tree in trees():
+            allowed = set()
+            for node in ast.walk(tree):
+                if isinstance(node, ast.Subscript) and isinstance(node.ctx, ast.Load):
+                    allowed.add(id(node.value))
+                elif isinstance(node, ast.Compare) and isinstance(node.ops[0], (ast.In, ast.NotIn)):
+                    allowed.add(id(node.comparators[0]))
+                elif isinstance(node, ast.Attribute) and node.attr == "get":
+                    allowed.add(id(node.value))
+            for node in ast.walk(tree):
+                if isinstance(node, ast.Name) and node.id in tables and isinstance(node.ctx, ast.Load):
+                    self.assertIn(id(node), allowed, (name, node.lineno))
+
+    def test_what_is_called_from_a_table_has_a_name_first(self):
+        for place, node in nodes(ast.Call):
+            self.assertIsInstance(node.func, (ast.Name, ast.Attribute), place)

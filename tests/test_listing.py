@@ -27,7 +27,8 @@ class WordsOfTest(unittest.TestCase, Wrong):
                 self.assertEqual([words_of(excess=excess, many=many), words_of(many, excess=excess)], [told, told])
                 for word in told:
                     self.assertIs(is_word(word), True)
-                    self.assertEqual([type(word), type(word[0]), type(word[1]), word[0] + sum(word[1])], [tuple, int, list, many])
+                    self.assertEqual([type(word), type(word[0]), type(word[1]), word[0] + sum(word[1])],
+                                     [tuple, int, list, many])
                     self.assertLessEqual({type(number) for number in word[1]}, {int})
 
     def test_each_is_that_of_some_body(self):

@@ -35,7 +35,8 @@ FORMS = {
             (list(range(9)), "lot 0 1 2 3 4 5 6 7 8\n")],
     "form": [
         (([0], 0), "form 0\nnormal 0\n"), (([-1, -1], 1), "form 1\nnormal -1 -1\n"),
-        (((Ratio(1, 2), 3), Ratio(-5, 3)), "form -5/3\nnormal 1/2 3\n"), (([1] * 8, Ratio(4, 2)), "form 2\nnormal" + " 1" * 8 + "\n"),
+        (((Ratio(1, 2), 3), Ratio(-5, 3)), "form -5/3\nnormal 1/2 3\n"), (([1] * 8, Ratio(4, 2)),
+                                                                          "form 2\nnormal" + " 1" * 8 + "\n"),
     ],
     "numbers": [
         ([0], "numbers 0\n"), ((1, -2), "numbers 1 -2\n"), ([Ratio(1, 2), Ratio(-10, 4), Ratio(6, 3)], "numbers 1/2 -5/2 2\n"),
@@ -44,12 +45,16 @@ FORMS = {
 }
 # By sort values that are none of it, each for one reason.
 NONE = {
-    "points": [[[0]], [[0]] * 10, [[0] * 9] * 2, [[], []], [[0], [0, 1]], [[0], [True]], [[0], ["0"]], [0, 1], ([0], None), {0: [0], 1: [1]}],
+    "points": [[[0]], [[0]] * 10, [[0] * 9] * 2, [[], []], [[0], [0, 1]], [[0], [True]], [[0], ["0"]], [0, 1], ([0], None),
+               {0: [0], 1: [1]}],
     "wheel": NEARLY,
-    "word": [(0, [1, 3]), [0, [2, 2]], (0, [3, 2]), (0, []), (1, []), (10, []), (0, [2, 2], 0), (True, [2, 2]), (0, [2, Ratio(2)]),
+    "word": [(0, [1, 3]), [0, [2, 2]], (0, [3, 2]), (0, []), (1, []), (10, []), (0, [2, 2], 0), (True, [2, 2]),
+             (0, [2, Ratio(2)]),
              (0, [2, 0] * 3), (6, [2, 2]), (-1, [2, 2]), (0, 2, 2)],
-    "lot": [[9], [0, 9], [1, 0], [0, 0], [-1], [True], [0, Ratio(1)], ["0"], [None], {0, 1}, "01", range(2), 0, [[0]], [0, True]],
-    "form": [([], 0), ([0] * 9, 0), [[0], 0], ([0],), ([0], 0, 0), ([0], True), ([False], 0), ([0], None), ([0], [0]), (0, [0]), ([[0]], 0),
+    "lot": [[9], [0, 9], [1, 0], [0, 0], [-1], [True], [0, Ratio(1)], ["0"], [None], {0, 1}, "01", range(2), 0, [[0]],
+            [0, True]],
+    "form": [([], 0), ([0] * 9, 0), [[0], 0], ([0],), ([0], 0, 0), ([0], True), ([False], 0), ([0], None), ([0], [0]),
+             (0, [0]), ([[0]], 0),
              ([0], "0"), (0, 0), ("0", 0)],
     "numbers": [[], (), [0] * 41, [True], [0, False], ["0"], [None], [[0]], 0, "0", {0: 0}, {0}, range(1), ([0], 0)],
 }
@@ -106,8 +111,8 @@ class WrittenTest(unittest.TestCase, Wrong):
 
     def test_all_points_wheels_and_words_of_the_samples(self):
         for points in told_points():
-            wanted = "points\n" + "".join("at " + " ".join(str(fraction(number)) for number in point) + "\n" for point in points)
-            self.assertEqual(written("points", points), wanted)
+            lines = [" ".join(["at"] + [str(fraction(number)) for number in point]) for point in points]
+            self.assertEqual(written("points", points), "\n".join(["points"] + lines) + "\n")
         for wheel in GOOD:
             wanted = " ".join(",".join(str(fraction(number)) for number in spoke) for spoke in wheel)
             self.assertEqual(written("wheel", wheel), f"wheel {wanted}\n")
